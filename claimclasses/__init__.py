@@ -1,0 +1,1 @@
+"""Claimclasses: what claims cost in classes, for all rows of claims."""
