@@ -1,6 +1,6 @@
 """The checks of callers' values that several files share."""
 
-from claimclasses.errors import BadClaims, BadPremiums, NoClass
+from claimclasses.errors import BadClaims, BadPremiums, BadYears, NoClass
 
 MOST_CLASSES = 12
 MOST_PREMIUM = 1000000
@@ -40,3 +40,8 @@ def check_claims(claims):
 def check_row(row):
     for claims in row:
         check_claims(claims)
+
+
+def check_years(years, low, high):
+    if not is_between(years, low, high):
+        raise BadYears(years)

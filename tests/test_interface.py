@@ -3,13 +3,26 @@
 import inspect
 import unittest
 
-from claimclasses import makers, scales
+from claimclasses import alike, makers, means, memory, pairs, scales
+from claimclasses.alike import alike_in, least, least_from, needless_columns, parting_row
 from claimclasses.makers import both, by_steps, delayed, protected, renumbered
+from claimclasses.means import greatest_mean, is_mean_potentials, least_mean, long_run, mean_potentials, offset
+from claimclasses.memory import (always_forgotten, classes_after, forgotten, kept_apart, kept_ring, never_meeting,
+                                 uniting_row)
+from claimclasses.pairs import by_years, difference, excess, is_potentials, never_more, potentials
 from claimclasses.scales import Scale
 
 
 def ladder():
     return Scale([100, 140, 200], [[0, 1, 2], [0, 2, 2], [1, 2, 2]])
+
+
+def mild():
+    return Scale([100, 130, 160], [[0, 1], [0, 2], [1, 2]])
+
+
+def harsh():
+    return Scale([90, 200], [[0, 1], [0, 1]])
 
 
 class ExamplesTest(unittest.TestCase):
@@ -37,6 +50,49 @@ class ExamplesTest(unittest.TestCase):
         told = [both(short, ladder()).premiums(), renumbered(ladder(), [2, 0, 1]).table()]
         self.assertEqual(repr(told), "[[150, 190, 250, 180, 220, 280], [[2, 0, 0], [1, 2, 0], [1, 0, 0]]]")
 
+    def test_first_example_of_pairs(self):
+        told = [pairs.pairs(mild(), 0, harsh(), 0), difference(mild(), 0, harsh(), 0, [1, 0]),
+                excess(mild(), 0, harsh(), 0)[0], never_more(harsh(), 1, mild(), 2)]
+        self.assertEqual(repr(told), "[[(0, 0), (1, 0), (1, 1), (2, 1)], -60, 'endless', False]")
+
+    def test_second_example_of_pairs(self):
+        found = excess(mild(), 2, harsh() + 10, 0)
+        told = [found[0], found[1],
+                is_potentials(mild(), 2, harsh() + 10, 0, potentials(mild(), 2, harsh() + 10, 0))]
+        self.assertEqual(repr(told), "['most', 90, True]")
+
+    def test_third_example_of_pairs(self):
+        self.assertEqual(repr(by_years(mild(), 0, harsh(), 0, 2)), "[(0, 0), (10, 10), (-60, 20)]")
+
+    def test_first_example_of_means(self):
+        told = [greatest_mean(mild(), 0, harsh(), 0)[0], least_mean(mild(), 0, harsh(), 0)[0], long_run(mild(), 1),
+                offset(mild(), 2, harsh(), 0)]
+        self.assertEqual(repr(told), "[(10, 1), (-40, 1), ((100, 1), (160, 1)), (90, 1)]")
+
+    def test_second_example_of_means(self):
+        amounts = mean_potentials(mild(), 0, harsh(), 0)
+        told = [is_mean_potentials(mild(), 0, harsh(), 0, (10, 1), amounts),
+                is_mean_potentials(mild(), 0, harsh(), 0, (9, 1), amounts)]
+        self.assertEqual(repr(told), "[True, False]")
+
+    def test_examples_of_alike(self):
+        twin = Scale([10, 10, 20], [[1, 2, 2], [0, 2, 2], [0, 2, 2]])
+        smaller, led = least(twin)
+        told = [smaller.premiums(), smaller.table(), led, alike_in(twin, twin), needless_columns(twin)]
+        self.assertEqual(repr(told), "[[10, 20], [[0, 1, 1], [0, 1, 1]], [0, 0, 1], [[0, 1], [0, 1], [2]], 1]")
+        told = [least_from(twin, 2).premiums(), len(parting_row(twin, 0, Scale([10, 20], [[0, 1], [0, 0]]), 0)),
+                parting_row(twin, 0, twin, 1)]
+        self.assertEqual(repr(told), "[[20, 10], 2, None]")
+
+    def test_examples_of_memory(self):
+        turned = Scale([1, 2, 3], [[1, 0], [0, 1], [2, 2]])
+        told = [forgotten(mild()), forgotten(mild(), 1), forgotten(turned), kept_apart(turned, 1)[2],
+                classes_after(mild(), [1, 0])]
+        self.assertEqual(repr(told), "[(2, 0), (2, 2), None, 1, [0, 1]]")
+        told = [len(uniting_row(harsh())), always_forgotten(harsh()), always_forgotten(mild()),
+                len(kept_ring(mild())[2]) > 0, never_meeting(mild()), len(never_meeting(turned)) > 0]
+        self.assertEqual(repr(told), "[1, 1, None, True, None, True]")
+
 
 class NamesTest(unittest.TestCase):
 
@@ -49,8 +105,19 @@ class NamesTest(unittest.TestCase):
         self.assertEqual(Scale.__module__, scales.__name__)
 
     def test_functions_stand_in_their_file(self):
-        for name in ("by_steps", "protected", "both", "delayed", "renumbered"):
-            self.assertEqual(getattr(makers, name).__module__, makers.__name__, name)
+        names = {
+            makers: "by_steps protected both delayed renumbered",
+            pairs: "pairs difference excess never_more potentials is_potentials by_years",
+            means: "greatest_mean least_mean mean_potentials is_mean_potentials offset long_run",
+            alike: "parting_row alike_in least least_from needless_columns",
+            memory: "forgotten kept_apart uniting_row meeting_row never_meeting is_never_meeting always_forgotten "
+                    "kept_ring classes_after",
+        }
+        for module, told in names.items():
+            for name in told.split():
+                function = getattr(module, name)
+                self.assertTrue(inspect.isfunction(function), name)
+                self.assertEqual((function.__module__, function.__name__), (module.__name__, name))
 
     def test_arguments_have_their_names(self):
         arguments = {
@@ -71,7 +138,28 @@ class NamesTest(unittest.TestCase):
             both: ["one", "other"],
             delayed: ["scale"],
             renumbered: ["scale", "order"],
+            difference: ["one", "start", "other", "begin", "row"],
+            is_potentials: ["one", "start", "other", "begin", "amounts"],
+            by_years: ["one", "start", "other", "begin", "years"],
+            is_mean_potentials: ["one", "start", "other", "begin", "mean", "amounts"],
+            long_run: ["scale", "start"],
+            parting_row: ["one", "start", "other", "begin"],
+            alike_in: ["one", "other"],
+            least: ["scale"],
+            least_from: ["scale", "start"],
+            needless_columns: ["scale"],
+            memory.meeting_row: ["scale", "at", "by"],
+            memory.is_never_meeting: ["scale", "pairs"],
+            classes_after: ["scale", "row"],
         }
+        for function in (pairs.pairs, excess, never_more, potentials, greatest_mean, least_mean, mean_potentials,
+                         offset):
+            arguments[function] = ["one", "start", "other", "begin"]
+        for function in (uniting_row, never_meeting, always_forgotten, kept_ring):
+            arguments[function] = ["scale"]
+        for function in (forgotten, kept_apart):
+            arguments[function] = ["scale", "claims"]
+            self.assertEqual(function.__defaults__, (0,))
         for thing, names in arguments.items():
             self.assertEqual(list(inspect.signature(thing).parameters), names, thing)
 

@@ -48,6 +48,23 @@ def bound(tree):
     return names
 
 
+def imported(tree):
+    """The names that a file imports from the package, each with the name of its file."""
+    return {name.name: node.module.partition(".")[2] for node in tree.body
+            if isinstance(node, ast.ImportFrom) and node.module != "__future__" for name in node.names}
+
+
+def parents():
+    """Each node beside the node in which it stands."""
+    return [(stem, child, node) for stem, tree in TREES.items() for node in ast.walk(tree)
+            for child in ast.iter_child_nodes(node)]
+
+
+def called(node):
+    """The name of the function that is called, or else an empty string."""
+    return node.func.id if isinstance(node, ast.Call) and isinstance(node.func, ast.Name) else ""
+
+
 class FilesTest(unittest.TestCase):
 
     def test_the_folder_contains_only_files_with_plain_names(self):
@@ -83,6 +100,22 @@ class NamesTest(unittest.TestCase):
                 package, _, module = node.module.partition(".")
                 self.assertEqual((package, node.level), ("claimclasses", 0), stem)
                 self.assertLessEqual({name.name for name in node.names}, set(defined(TREES[module])), stem)
+
+    def test_no_files_import_from_each_other(self):
+        behind = {stem: {*imported(tree).values()} for stem, tree in TREES.items()}
+        for _ in TREES:
+            behind = {stem: further.union(*[behind[module] for module in further]) for stem, further in behind.items()}
+        for stem, further in behind.items():
+            self.assertNotIn(stem, further)
+
+    def test_imports_and_classes_keep_their_names_to_themselves(self):
+        for stem, tree in TREES.items():
+            kept = {*imported(tree), *[node.name for node in tree.body if isinstance(node, ast.ClassDef)]}
+            for node in ast.walk(tree):
+                if isinstance(node, ast.arg):
+                    self.assertNotIn(node.arg, kept, stem)
+                elif isinstance(node, ast.Name) and not isinstance(node.ctx, ast.Load):
+                    self.assertNotIn(node.id, kept, stem)
 
     def test_only_the_allowed_builtins_are_read(self):
         for stem, tree in TREES.items():
@@ -124,6 +157,27 @@ class ExpressionsTest(unittest.TestCase):
             for sign, other in zip(node.ops, node.comparators):
                 if isinstance(sign, (ast.Is, ast.IsNot)):
                     self.assertIn(ast.unparse(other), ("None", "True", "False"), stem)
+
+    def test_no_generator_expressions(self):
+        # The classes have operators, so sum, max and the like take lists.
+        self.assertEqual(nodes(ast.GeneratorExp), [])
+
+    def test_sets_stand_where_they_are_used(self):
+        for stem, node, parent in parents():
+            if isinstance(node, (ast.Set, ast.SetComp)) or called(node) in ("set", "frozenset"):
+                self.assertTrue(isinstance(parent, ast.Compare) or called(parent) in ("sorted", "len"),
+                                f"{stem}, line {node.lineno}")
+
+    def test_what_is_iterated_at_once(self):
+        for stem, node, parent in parents():
+            method = node.func.attr if isinstance(node, ast.Call) and isinstance(node.func, ast.Attribute) else ""
+            if called(node) in ("zip", "enumerate", "reversed", "range") or method in ("items", "keys", "values"):
+                fitting = isinstance(parent, (ast.For, ast.comprehension)) or called(parent) in (
+                    "list", "tuple", "dict", "sorted", "sum", "any", "all", "enumerate", "zip", "min", "max")
+                # A range is the one of them that may be turned round or asked for its length.
+                if called(node) == "range" and called(parent) in ("reversed", "len"):
+                    fitting = True
+                self.assertTrue(fitting, f"{stem}, line {node.lineno}")
 
     def test_errors_are_created_where_they_are_raised(self):
         for stem, node in nodes(ast.Raise):
