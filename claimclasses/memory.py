@@ -1,6 +1,6 @@
 """Memory: whether, and behind which years, the class of a policy does not depend on its class before."""
 
-from claimclasses.pairs import explored, first_return, pair_moves, way_along
+from claimclasses.pairs import class_pairs, explored, first_return, pair_moves, way_along
 from claimclasses.scales import shortest_rows
 
 
@@ -30,9 +30,7 @@ def lasting_classes(scale, claims):
 
 def apart_moves(scale):
     """For each pair of different classes the pairs to which the columns lead."""
-    many = len(scale)
-    apart = [(at, by) for at in range(many) for by in range(many) if at != by]
-    return {(at, by): [(scale(at, k), scale(by, k)) for k in range(scale.columns)] for at, by in apart}
+    return {pair: leads for pair, leads in class_pairs(scale).items() if pair[0] != pair[1]}
 
 
 def lasting_pairs(moves, needed):

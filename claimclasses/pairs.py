@@ -32,6 +32,12 @@ def pair_moves(one, start, other, begin):
     return explored((start, begin), lambda pair: [(one(pair[0], k), other(pair[1], k)) for k in range(columns)])
 
 
+def class_pairs(scale):
+    """For each two classes of a scale, one class twice among them, the pairs to which the columns lead."""
+    classes = list(range(len(scale)))
+    return {(at, by): [(scale(at, k), scale(by, k)) for k in range(scale.columns)] for at in classes for by in classes}
+
+
 def pair_adds(one, other, moves):
     return {(at, by): one.premium(at) - other.premium(by) for at, by in moves}
 
@@ -63,6 +69,19 @@ def growing_pair(moves, sums, amounts):
         if sums[len(moves)][pair] > amounts[pair]:
             return pair
     return None
+
+
+def ever_amounts(scale):
+    """For each two classes of a scale the greatest difference behind any row, or None if it can grow without end."""
+    moves = class_pairs(scale)
+    sums = sums_of_years(moves, pair_adds(scale, scale, moves))
+    amounts = greatest_amounts(moves, sums)
+    growing = {pair: True for pair in moves if sums[len(moves)][pair] > amounts[pair]}
+    for first in moves:
+        # From where such a pair can be reached, its ring can be gone round as often as one likes.
+        if any([pair in growing for pair in explored(first, lambda at: moves[at])]):
+            amounts[first] = None
+    return amounts
 
 
 def greatest_row(moves, sums, pair, years):

@@ -185,6 +185,31 @@ def ring_sums(one, start, other, begin):
     return [(sum(added(one, other, pair) for pair in ring), len(ring)) for ring in rings]
 
 
+def most_amount(one, start, other, begin):
+    """The amount of point 16 by a search of its own, or None if there is a ring that adds more than 0."""
+    if any(amount > 0 for amount, _ in ring_sums(one, start, other, begin)):
+        return None
+    return max(high for _, high in spans(one, start, other, begin, len(graph(one, start, other, begin))))
+
+
+def amount_told(told, one, start, other, begin):
+    """The amount that `excess` told, or None if it told of a ring; what it told is looked at by walks year by year."""
+    assert type(told) is tuple and len(told) == 3, told
+    if told[0] == "endless":
+        _, front, ring = told
+        assert is_row(front) and is_row(ring) and len(ring) > 0, told
+        at, by = walked(one, start, other, begin, front)[-1]
+        assert walked(one, at, other, by, ring)[-1] == (at, by), told
+        assert gained(one, at, other, by, ring) > 0, told
+        return None
+    kind, amount, row = told
+    assert kind == "most" and type(amount) is int and is_row(row), told
+    assert gained(one, start, other, begin, row) == amount, told
+    # No shorter row has this difference.
+    assert all(high < amount for _, high in spans(one, start, other, begin, len(row))[:-1]), told
+    return amount
+
+
 def all_rows(columns, years):
     return [list(row) for row in itertools.product(range(columns), repeat=years)]
 

@@ -3,13 +3,16 @@
 import inspect
 import unittest
 
-from claimclasses import alike, makers, means, memory, pairs, scales
+from claimclasses import alike, fairness, makers, means, memory, orders, pairs, reporting, scales
 from claimclasses.alike import alike_in, least, least_from, needless_columns, parting_row
+from claimclasses.fairness import fair_pairs, is_fair_pairs, order_ring, ranks, unfair_sum, unfair_year, worse
 from claimclasses.makers import both, by_steps, delayed, protected, renumbered
 from claimclasses.means import greatest_mean, is_mean_potentials, least_mean, long_run, mean_potentials, offset
 from claimclasses.memory import (always_forgotten, classes_after, forgotten, kept_apart, kept_ring, never_meeting,
                                  uniting_row)
+from claimclasses.orders import (alike_behind, best_spread, cheapest_order, dearest_order, never_dearer, places_cost)
 from claimclasses.pairs import by_years, difference, excess, is_potentials, never_more, potentials
+from claimclasses.reporting import never_worth, report, report_paper, surely_worth, worth, worth_ever
 from claimclasses.scales import Scale
 
 
@@ -93,6 +96,34 @@ class ExamplesTest(unittest.TestCase):
                 len(kept_ring(mild())[2]) > 0, never_meeting(mild()), len(never_meeting(turned)) > 0]
         self.assertEqual(repr(told), "[1, 1, None, True, None, True]")
 
+    def test_first_example_of_fairness(self):
+        told = [unfair_year(mild()), is_fair_pairs(mild(), fair_pairs(mild())), unfair_sum(mild()), worse(mild()),
+                ranks(mild())]
+        self.assertEqual(repr(told), "[None, True, None, [(1, 0), (2, 0), (2, 1)], [0, 1, 2]]")
+
+    def test_second_example_of_fairness(self):
+        odd = Scale([50, 90, 40], [[0, 1], [0, 2], [0, 2]])
+        told = [unfair_year(odd)[1:], unfair_sum(odd)[:2], unfair_sum(odd)[2][:2], order_ring(odd)]
+        self.assertEqual(repr(told), "[(0, []), (0, 0), ('most', 10), None]")
+
+    def test_examples_of_orders(self):
+        told = [cheapest_order(mild(), 0, [1, 0, 1])[0], dearest_order(mild(), 0, [1, 0, 1], 2)[0],
+                places_cost(mild(), 0, 1, 3)]
+        self.assertEqual(repr(told), "[330, 620, [330, 330, 300]]")
+        told = [never_dearer(mild(), [0, 1], [1, 0])[0], best_spread(mild(), 1, 1), best_spread(harsh(), 1, 1),
+                alike_behind(mild(), [0, 5], [1, 5])]
+        self.assertEqual(repr(told), "[0, [], [3], (0, [])]")
+
+    def test_first_example_of_reporting(self):
+        told = [report(mild(), 0, [[20, 500], [35]]), report(mild(), 0, [[20], [35]], 10, 3),
+                report_paper(harsh(), [[50, 120]], 0, 1)]
+        self.assertEqual(repr(told), "[(230, [2, 1]), (555, [0, 0]), [[290, 400], [90, 200]]]")
+
+    def test_second_example_of_reporting(self):
+        told = [worth(mild(), 0, 0, 2), worth(harsh(), 0, 0, 1), worth_ever(harsh(), 1, 0)[:2],
+                surely_worth(harsh(), 0, 0, 110), never_worth(mild(), 0, 0, 30, 1)]
+        self.assertEqual(repr(told), "[(30, 60), (110, 110), ('most', 110), True, True]")
+
 
 class NamesTest(unittest.TestCase):
 
@@ -112,6 +143,9 @@ class NamesTest(unittest.TestCase):
             alike: "parting_row alike_in least least_from needless_columns",
             memory: "forgotten kept_apart uniting_row meeting_row never_meeting is_never_meeting always_forgotten "
                     "kept_ring classes_after",
+            fairness: "unfair_year fair_pairs is_fair_pairs unfair_sum worse order_ring ranks",
+            orders: "cheapest_order dearest_order places_cost never_dearer best_spread alike_behind",
+            reporting: "report report_paper worth worth_ever surely_worth never_worth",
         }
         for module, told in names.items():
             for name in told.split():
@@ -151,12 +185,29 @@ class NamesTest(unittest.TestCase):
             memory.meeting_row: ["scale", "at", "by"],
             memory.is_never_meeting: ["scale", "pairs"],
             classes_after: ["scale", "row"],
+            is_fair_pairs: ["scale", "pairs"],
+            places_cost: ["scale", "start", "claims", "years"],
+            best_spread: ["scale", "first", "second"],
+            report: ["scale", "start", "damages", "own", "after"],
+            report_paper: ["scale", "damages", "own", "after"],
+            worth: ["scale", "at", "claims", "years"],
+            worth_ever: ["scale", "at", "claims"],
+            surely_worth: ["scale", "at", "claims", "saved"],
+            never_worth: ["scale", "at", "claims", "saved", "years"],
         }
         for function in (pairs.pairs, excess, never_more, potentials, greatest_mean, least_mean, mean_potentials,
                          offset):
             arguments[function] = ["one", "start", "other", "begin"]
-        for function in (uniting_row, never_meeting, always_forgotten, kept_ring):
+        for function in (uniting_row, never_meeting, always_forgotten, kept_ring, unfair_year, fair_pairs, unfair_sum,
+                         worse, order_ring, ranks):
             arguments[function] = ["scale"]
+        for function in (never_dearer, alike_behind):
+            arguments[function] = ["scale", "row", "other"]
+        for function in (cheapest_order, dearest_order):
+            arguments[function] = ["scale", "start", "years", "after"]
+            self.assertEqual(function.__defaults__, (0,))
+        for function in (report, report_paper):
+            self.assertEqual(function.__defaults__, (0, 0))
         for function in (forgotten, kept_apart):
             arguments[function] = ["scale", "claims"]
             self.assertEqual(function.__defaults__, (0,))

@@ -6,19 +6,12 @@ import unittest
 
 from claimclasses.pairs import by_years, difference, excess, is_potentials, never_more, pairs, potentials
 from claimclasses.scales import Scale
-from tests.helpers import (DEAREST, HARSH, LARGE, LONELY, MILD, NO_INTEGERS, RefusedClasses, added, all_rows, answered,
-                           gained, graph, is_row, layers, long_ladders, raised, random_row, random_scale, random_scales,
-                           ring_sums, rings_of_unlike_lengths, small_cases, spans, walked)
+from tests.helpers import (DEAREST, HARSH, LARGE, LONELY, MILD, NO_INTEGERS, RefusedClasses, added, all_rows,
+                           amount_told, answered, gained, graph, layers, long_ladders, most_amount, raised, random_row,
+                           random_scale, random_scales, rings_of_unlike_lengths, small_cases, spans)
 
 # Class 0 leads to class 1, and that to class 2, where a policy stays.
 DOWN = Scale([5, 3, 0], [[1], [2], [2]])
-
-
-def most_amount(one, start, other, begin):
-    """The amount of point 16 by a search of its own, or None if there is a ring that adds more than 0."""
-    if any(amount > 0 for amount, _ in ring_sums(one, start, other, begin)):
-        return None
-    return max(high for _, high in spans(one, start, other, begin, len(graph(one, start, other, begin))))
 
 
 def is_proof(one, start, other, begin, amounts):
@@ -115,20 +108,7 @@ class ExcessTest(unittest.TestCase):
 
     def check(self, one, start, other, begin):
         """Looks at what `excess` tells, by walks year by year; returns the amount, or None."""
-        told = answered(excess, one, start, other, begin)
-        self.assertEqual((type(told), len(told)), (tuple, 3))
-        if told[0] == "endless":
-            _, front, ring = told
-            self.assertTrue(is_row(front) and is_row(ring) and len(ring) > 0)
-            at, by = walked(one, start, other, begin, front)[-1]
-            self.assertEqual(walked(one, at, other, by, ring)[-1], (at, by))
-            self.assertGreater(gained(one, at, other, by, ring), 0)
-            return None
-        kind, amount, row = told
-        self.assertEqual((kind, type(amount), is_row(row)), ("most", int, True))
-        self.assertEqual(gained(one, start, other, begin, row), amount)
-        self.assertTrue(all(high < amount for _, high in spans(one, start, other, begin, len(row))[:-1]))
-        return amount
+        return amount_told(answered(excess, one, start, other, begin), one, start, other, begin)
 
     def test_small_scales_against_a_search_of_their_own(self):
         amounts = []
