@@ -4,6 +4,7 @@ from claimclasses.errors import BadClaims, BadPremiums, BadYears, NoClass
 
 MOST_CLASSES = 12
 MOST_PREMIUM = 1000000
+MOST_YEARS = 1000
 
 
 def is_integer(value):

@@ -3,7 +3,7 @@
 `moves`, `adds` and `sums` are those of claimclasses/pairs.py.
 """
 
-from claimclasses.pairs import pair_adds, pair_moves, ring_behind, shows, sums_of_years
+from claimclasses.pairs import changed_adds, pair_adds, pair_moves, ring_behind, shows, sums_of_years
 from claimclasses.scales import Scale
 
 
@@ -53,7 +53,7 @@ def greatest_ring(moves, adds, start):
     """The greatest mean of all rings, a row from `start` to a ring that has it, and this ring."""
     sums = sums_of_years(moves, adds)
     mean, pair = greatest_share(moves, sums)
-    front, ring = ring_behind(moves, sums, start, pair)
+    front, ring = ring_behind(moves, adds, sums, start, pair)
     return mean, front, ring
 
 
@@ -76,7 +76,7 @@ def least_mean(one, start, other, begin):
     """The least mean of all rings of two policies, with a row to a ring that has it, and this ring."""
     moves = pair_moves(one, start, other, begin)
     adds = pair_adds(one, other, moves)
-    mean, front, ring = greatest_ring(moves, {pair: -adds[pair] for pair in moves}, (start, begin))
+    mean, front, ring = greatest_ring(moves, changed_adds(adds, -1, 0), (start, begin))
     return (-mean[0], mean[1]), front, ring
 
 
@@ -92,7 +92,7 @@ def is_mean_potentials(one, start, other, begin, mean, amounts):
     moves = pair_moves(one, start, other, begin)
     adds = pair_adds(one, other, moves)
     top, bottom = mean
-    return shows(moves, {pair: bottom * adds[pair] - top for pair in moves}, amounts)
+    return shows(moves, changed_adds(adds, bottom, -top), amounts)
 
 
 def offset(one, start, other, begin):

@@ -1,9 +1,9 @@
 """Orders of claims: which orders of the same claims cost least or most, and which rows are never dearer."""
 
 from claimclasses.alike import parting_row
-from claimclasses.checks import check_claims, check_class, check_row, check_years
+from claimclasses.checks import MOST_YEARS, check_claims, check_class, check_row, check_years
 from claimclasses.errors import BadRows
-from claimclasses.pairs import MOST_YEARS, ever_amounts, excess
+from claimclasses.pairs import ever_amounts, excess
 
 MOST_PLACES = 100
 

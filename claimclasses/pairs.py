@@ -1,14 +1,13 @@
 """Two policies under the same claims: their pairs of classes, and how much more the first one pays.
 
 In the functions below, `moves` has for each pair of classes that can be reached the list of the pairs to which the
-columns lead, `adds` has what a year that begins in the pair adds to the difference, and `sums[n]` has the greatest sum
-that `n` years add of which the first one begins in the pair. No pair is without a next year, so there is always one.
+columns lead, `adds` has for each pair the list of what the years with these columns add to the difference, and
+`sums[n]` has the greatest sum that `n` years add of which the first one begins in the pair. No pair is without a next
+year, so there is always one. Other files pass something else in the place of pairs and columns.
 """
 
-from claimclasses.checks import check_class, check_years
+from claimclasses.checks import MOST_YEARS, check_class, check_years
 from claimclasses.scales import shortest_rows
-
-MOST_YEARS = 1000
 
 
 def explored(start, leads):
@@ -39,12 +38,22 @@ def class_pairs(scale):
 
 
 def pair_adds(one, other, moves):
-    return {(at, by): one.premium(at) - other.premium(by) for at, by in moves}
+    return {(at, by): [one.premium(at) - other.premium(by)] * len(moves[(at, by)]) for at, by in moves}
+
+
+def changed_adds(adds, factor, amount):
+    """What years add if it is multiplied by the factor, and the amount is added for each year."""
+    return {pair: [factor * add + amount for add in adds[pair]] for pair in adds}
+
+
+def with_year(moves, adds, pair, last):
+    """For each column the sum of a year in this pair and of what `last` has for the pair behind it."""
+    return [add + last[to] for add, to in zip(adds[pair], moves[pair])]
 
 
 def year_before(moves, adds, last):
     """The greatest sums of one year more than `last` has them for."""
-    return {pair: adds[pair] + max([last[to] for to in moves[pair]]) for pair in moves}
+    return {pair: max(with_year(moves, adds, pair, last)) for pair in moves}
 
 
 def sums_of_years(moves, adds):
@@ -84,15 +93,13 @@ def ever_amounts(scale):
     return amounts
 
 
-def greatest_row(moves, sums, pair, years):
+def greatest_row(moves, adds, sums, pair, years):
     """A row of so many years that adds the greatest sum behind this pair."""
     row = []
     at = pair
     for left in reversed(range(years)):
-        rest = [sums[left][to] for to in moves[at]]
-        column = rest.index(max(rest))
-        row.append(column)
-        at = moves[at][column]
+        row.append(with_year(moves, adds, at, sums[left]).index(sums[left + 1][at]))
+        at = moves[at][row[-1]]
     return row
 
 
@@ -114,18 +121,44 @@ def first_return(way):
     return None
 
 
-def ring_behind(moves, sums, start, pair):
+def ring_behind(moves, adds, sums, start, pair):
     """A row from `start` to a ring, and the ring: it lies on the greatest row of as many years as there are pairs."""
-    row = greatest_row(moves, sums, pair, len(moves))
+    row = greatest_row(moves, adds, sums, pair, len(moves))
     low, high = first_return(way_along(moves, pair, row))
     return shortest_rows(moves, start)[pair] + row[:low], row[low:high]
+
+
+def greatest_told(moves, adds, first):
+    """What `excess` tells of the greatest sum that years add of which the first one begins in the pair `first`."""
+    sums = sums_of_years(moves, adds)
+    amounts = greatest_amounts(moves, sums)
+    growing = growing_pair(moves, sums, amounts)
+    if growing is not None:
+        front, ring = ring_behind(moves, adds, sums, first, growing)
+        return "endless", front, ring
+    years = [told[first] for told in sums].index(amounts[first])
+    return "most", amounts[first], greatest_row(moves, adds, sums, first, years)
+
+
+def least_amounts(moves, adds):
+    """The least amounts that show why no sum is greater, or None if sums can grow without end."""
+    sums = sums_of_years(moves, adds)
+    amounts = greatest_amounts(moves, sums)
+    return amounts if growing_pair(moves, sums, amounts) is None else None
 
 
 def shows(moves, adds, amounts):
     """Whether just the pairs have amounts, each at least what a year adds and the amount to which it leads."""
     if set(amounts) != set(moves):
         return False
-    return all([amounts[pair] >= adds[pair] + amounts[to] for pair in moves for to in moves[pair]])
+    return all([amounts[pair] >= max(with_year(moves, adds, pair, amounts)) for pair in moves])
+
+
+def shows_greatest(moves, adds, first, amounts):
+    """Whether amounts, none below 0, show why no sum from `first` on is greater than just the amount there."""
+    if not shows(moves, adds, amounts) or min([amounts[pair] for pair in moves]) < 0:
+        return False
+    return greatest_told(moves, adds, first)[:2] == ("most", amounts[first])
 
 
 def pairs(one, start, other, begin):
@@ -143,15 +176,7 @@ def difference(one, start, other, begin, row):
 def excess(one, start, other, begin):
     """The greatest difference behind any row, with a shortest row that has it, or a ring by which it grows."""
     moves = pair_moves(one, start, other, begin)
-    sums = sums_of_years(moves, pair_adds(one, other, moves))
-    amounts = greatest_amounts(moves, sums)
-    first = (start, begin)
-    growing = growing_pair(moves, sums, amounts)
-    if growing is not None:
-        front, ring = ring_behind(moves, sums, first, growing)
-        return "endless", front, ring
-    years = [told[first] for told in sums].index(amounts[first])
-    return "most", amounts[first], greatest_row(moves, sums, first, years)
+    return greatest_told(moves, pair_adds(one, other, moves), (start, begin))
 
 
 def never_more(one, start, other, begin):
@@ -162,19 +187,13 @@ def never_more(one, start, other, begin):
 def potentials(one, start, other, begin):
     """Amounts of the pairs that show why no difference is greater, or None if it can grow without end."""
     moves = pair_moves(one, start, other, begin)
-    sums = sums_of_years(moves, pair_adds(one, other, moves))
-    amounts = greatest_amounts(moves, sums)
-    return amounts if growing_pair(moves, sums, amounts) is None else None
+    return least_amounts(moves, pair_adds(one, other, moves))
 
 
 def is_potentials(one, start, other, begin, amounts):
     """Whether these amounts of pairs show why no difference is greater than the greatest one."""
     moves = pair_moves(one, start, other, begin)
-    if not shows(moves, pair_adds(one, other, moves), amounts):
-        return False
-    if not all([amounts[pair] >= 0 for pair in moves]):
-        return False
-    return excess(one, start, other, begin)[:2] == ("most", amounts[(start, begin)])
+    return shows_greatest(moves, pair_adds(one, other, moves), (start, begin), amounts)
 
 
 def by_years(one, start, other, begin, years):
@@ -184,7 +203,7 @@ def by_years(one, start, other, begin, years):
     adds = pair_adds(one, other, moves)
     greatest = starting_sums(moves, adds, (start, begin), years)
     # What is least is greatest with the signs turned.
-    turned = starting_sums(moves, {pair: -adds[pair] for pair in moves}, (start, begin), years)
+    turned = starting_sums(moves, changed_adds(adds, -1, 0), (start, begin), years)
     return [(-low, high) for low, high in zip(turned, greatest)]
 
 

@@ -1,8 +1,8 @@
 """Claims that are worth reporting: which damages to report, and what one claim more costs in later years."""
 
-from claimclasses.checks import check_class, check_years, is_integer
+from claimclasses.checks import MOST_YEARS, check_class, check_years, is_integer
 from claimclasses.errors import BadDamages
-from claimclasses.pairs import MOST_YEARS, by_years, excess
+from claimclasses.pairs import by_years, excess
 
 
 def is_damages(year):

@@ -3,6 +3,7 @@
 import itertools
 import random
 
+from claimclasses.changing import Houses
 from claimclasses.errors import ClaimError
 from claimclasses.scales import Scale
 
@@ -46,6 +47,10 @@ def written(value):
     """A value as a string, to see whether it was changed."""
     if isinstance(value, Scale):
         return f"Scale({value.premiums()}, {value.table()})"
+    if isinstance(value, Houses):
+        scales = [value.scale_of(house) for house in range(len(value))]
+        choices = [value.choices((house, at)) for house, scale in enumerate(scales) for at in range(len(scale))]
+        return f"Houses({[written(scale) for scale in scales]}, {choices})"
     return repr(value)
 
 
@@ -273,6 +278,112 @@ def long_ladders():
     mild = [[max(at - 1, 0), min(at + 1, 11), min(at + 3, 11), min(at + 6, 11), 11] for at in range(12)]
     harsh = [[max(at - 2, 0), min(at + 4, 11), 11, 11, 11] for at in range(12)]
     return Scale(premiums, mild), Scale([premium + 3511 for premium in premiums], harsh)
+
+
+def random_ways(source, scales, share):
+    """Ways between some of the houses, with fees of all sizes."""
+    ends = [(house, to) for house in range(len(scales)) for to in range(len(scales)) if house != to]
+    return {(house, to): ([source.randrange(len(scales[to])) for _ in range(len(scales[house]))],
+                          source.choice([0, 0, 1, 3, source.randint(0, 9), 1000000]))
+            for house, to in ends if source.random() < share}
+
+
+def random_houses(source):
+    """The scales and the ways of a few houses, some of which have the same scale."""
+    sizes = [source.randint(1, 3) for _ in range(source.randint(1, 4))]
+    scales = [random_scale(source, size, source.randint(1, 3), source.choice([0, 2, 9])) for size in sizes]
+    kind = source.randrange(5)
+    if kind == 0 and len(sizes) * len(scales[0]) <= 12:
+        scales = [scales[0] for _ in sizes]
+    elif kind > 2:
+        # In the long run nothing costs anything, so no gain grows without end.
+        scales = [sinking_scale(source) for _ in range(source.randint(2, 3))]
+    return scales, random_ways(source, scales, source.choice([0, 0.3, 0.7, 1]))
+
+
+def all_places(scales):
+    return [(house, at) for house, scale in enumerate(scales) for at in range(len(scale))]
+
+
+def come(ways, place, to):
+    """The place in a house to which a policy changes, and the fee; None if there is no way: points 51 and 52."""
+    house, at = place
+    if house == to:
+        return place, 0
+    if (house, to) not in ways:
+        return None
+    classes, fee = ways[(house, to)]
+    return (to, classes[at]), fee
+
+
+def yearly_costs(scales, ways, place, row, plan):
+    """What each year costs by a plan, and the place behind the last one; None if there is a house without a way."""
+    told = []
+    for to, claims in zip(plan, row):
+        found = come(ways, place, to)
+        if found is None:
+            return None
+        (house, at), fee = found
+        told.append(scales[house].premiums()[at] + fee)
+        place = (house, led(scales[house], at, claims))
+    return told, place
+
+
+class OwnPolicy:
+    """Points 61 to 65, said once more without the program: all is computed from the first year on each time."""
+
+    def __init__(self, scales, ways, place):
+        self.scales, self.ways, self.place = scales, ways, place
+        self.claims, self.choices, self.bills = {}, {}, []
+
+    def copy(self):
+        other = OwnPolicy(self.scales, self.ways, self.place)
+        other.claims, other.choices, other.bills = {**self.claims}, {**self.choices}, [*self.bills]
+        return other
+
+    def years(self, many=1000):
+        """The place in each year and what it costs; None if there is a choice for which there is no way."""
+        place, told = self.place, []
+        for year in range(many):
+            found = come(self.ways, place, self.choices.get(year, place[0]))
+            if found is None:
+                return None
+            (house, at), fee = found
+            told.append(((house, at), self.scales[house].premiums()[at] + fee))
+            place = (house, led(self.scales[house], at, self.claims.get(year, 0)))
+        return told
+
+    def total(self, many):
+        return sum(cost for _, cost in self.years(many))
+
+    def billed(self):
+        return self.bills[-1][0] + 1 if self.bills else 0
+
+    def owed(self):
+        return self.total(self.billed()) - sum(amount for _, amount, _ in self.bills)
+
+    def bill(self, year):
+        owed = self.owed()
+        amount = self.total(year + 1) - sum(sent for _, sent, _ in self.bills)
+        self.bills.append((year, amount, owed))
+        return amount
+
+
+def policy_told(policy, many):
+    """What a policy tells of its first years and its bills."""
+    years = range(many)
+    bills = policy.bills_sent()
+    return ([policy[year] for year in years], [policy.place_in(year) for year in years],
+            [policy.cost(year) for year in years], [policy.total(year) for year in range(many + 1)], bills,
+            [policy.correction(year) for year, _ in bills], policy.owed())
+
+
+def own_told(own, many):
+    """The same, told by the policy above."""
+    told = own.years(many)
+    return ([own.claims.get(year, 0) for year in range(many)], [place for place, _ in told], [cost for _, cost in told],
+            [own.total(year) for year in range(many + 1)], [(year, amount) for year, amount, _ in own.bills],
+            [owed for _, _, owed in own.bills], own.owed())
 
 
 class RefusedClasses:

@@ -3,8 +3,12 @@
 import inspect
 import unittest
 
-from claimclasses import alike, fairness, makers, means, memory, orders, pairs, reporting, scales
+from claimclasses import (alike, changing, desk, fairness, makers, means, memory, orders, pairs, policies, reporting,
+                          scales, seen)
 from claimclasses.alike import alike_in, least, least_from, needless_columns, parting_row
+from claimclasses.changing import (Houses, cheapest, cheapest_paper, gain, gain_potentials, is_cheapest_paper,
+                                   is_gain_potentials, no_change_gains)
+from claimclasses.desk import Desk
 from claimclasses.fairness import fair_pairs, is_fair_pairs, order_ring, ranks, unfair_sum, unfair_year, worse
 from claimclasses.makers import both, by_steps, delayed, protected, renumbered
 from claimclasses.means import greatest_mean, is_mean_potentials, least_mean, long_run, mean_potentials, offset
@@ -12,8 +16,10 @@ from claimclasses.memory import (always_forgotten, classes_after, forgotten, kep
                                  uniting_row)
 from claimclasses.orders import (alike_behind, best_spread, cheapest_order, dearest_order, never_dearer, places_cost)
 from claimclasses.pairs import by_years, difference, excess, is_potentials, never_more, potentials
+from claimclasses.policies import Policy
 from claimclasses.reporting import never_worth, report, report_paper, surely_worth, worth, worth_ever
 from claimclasses.scales import Scale
+from claimclasses.seen import Seen
 
 
 def ladder():
@@ -26,6 +32,10 @@ def mild():
 
 def harsh():
     return Scale([90, 200], [[0, 1], [0, 1]])
+
+
+def both_houses():
+    return Houses([mild(), harsh()], {(0, 1): ([0, 0, 1], 5), (1, 0): ([0, 2], 5)})
 
 
 class ExamplesTest(unittest.TestCase):
@@ -124,16 +134,66 @@ class ExamplesTest(unittest.TestCase):
                 surely_worth(harsh(), 0, 0, 110), never_worth(mild(), 0, 0, 30, 1)]
         self.assertEqual(repr(told), "[(30, 60), (110, 110), ('most', 110), True, True]")
 
+    def test_examples_of_changing(self):
+        houses = both_houses()
+        told = [houses.cost((0, 0), [1, 0], [0, 0]), houses.cost((0, 0), [1, 0], [1, 0]),
+                cheapest(houses, (0, 1), [0, 0])]
+        self.assertEqual(repr(told), "[230, 260, (185, [1, 1])]")
+        told = [is_cheapest_paper(houses, (0, 1), [0, 0], 185, cheapest_paper(houses, (0, 1), [0, 0])),
+                gain(houses, (0, 0))[0], no_change_gains(Houses([mild()], {}), (0, 2))]
+        self.assertEqual(repr(told), "[True, 'endless', True]")
+
+    def test_examples_of_seen(self):
+        known = Seen(mild(), 2)
+        known[0] = 0
+        known.paid(2, 160)
+        told = [known.stories(), known.fewest(), known.possible(1), known[1], known.columns_in(0), known.best_year()]
+        self.assertEqual(repr(told), "[1, (0, [1, 1]), [1], [0, 1, 2], [1], (0, 1)]")
+        told = [known.tried(lambda held: held.only(1, [0, 2])), known.clash()]
+        self.assertEqual(repr(told), "[None, None]")
+        known[1] = 0
+        self.assertEqual(repr([known.stories(), known.clash()]), "[0, (1, 2)]")
+
+    def test_examples_of_policies(self):
+        policy = Policy(both_houses(), (0, 0))
+        self.assertEqual(repr([policy.bill(1), policy.place_in(1), policy.cost(0)]), "[200, (0, 0), 100]")
+        policy[0] = 1
+        told = [policy.place_in(1), policy.owed(), policy.bill(2), policy.correction(2), policy.back_worth(0, 2)]
+        self.assertEqual(repr(told), "[(0, 1), 30, 130, 30, 30]")
+        policy.change(1, 1)
+        told = [policy.place_in(1), policy.total(2), policy.tried(lambda held: held.stay(1)), policy.place_in(1),
+                policy.bills_sent()]
+        self.assertEqual(repr(told), "[(1, 0), 195, None, (1, 0), [(1, 200), (2, 130)]]")
+
+    def test_examples_of_desk(self):
+        office = Desk(both_houses())
+        told = [office.take_in("ann", (0, 0)), office.take_in("bo", (1, 1)),
+                office.news([("ann", 0, 1), ("bo", 3, 2)]), office.total(2)]
+        self.assertEqual(repr(told), "[None, None, None, 520]")
+        told = [office.move("bo", 1, 0), office.taken(2), sorted(office.bill(0).items()), office.deeds(),
+                office.undo(), office.policy("bo").bills_sent()]
+        self.assertEqual(repr(told), "[None, [335, 200], [('ann', 100), ('bo', 200)], 5, None, []]")
+
 
 class NamesTest(unittest.TestCase):
 
     def test_methods_stand_in_the_class_itself(self):
-        methods = ("__init__", "__call__", "__len__", "__contains__", "__add__", "__mul__", "premium", "premiums",
-                   "table", "classes", "bills", "paid", "reached", "way", "limited", "same")
-        for name in methods:
-            self.assertTrue(inspect.isfunction(vars(Scale)[name]), name)
+        methods = {
+            Scale: (scales, "__init__ __call__ __len__ __contains__ __add__ __mul__ premium premiums table classes bills "
+                            "paid reached way limited same"),
+            Houses: (changing, "__init__ __len__ scale_of choices cost"),
+            Seen: (seen, "__init__ __getitem__ __setitem__ only paid possible stories fewest most columns_in clash "
+                         "best_year trial tried"),
+            Policy: (policies, "__init__ __getitem__ __setitem__ change stay place_in cost total bill bills_sent "
+                               "correction owed back_worth trial tried twin"),
+            Desk: (desk, "__init__ __contains__ __len__ take_in drop policy names news move bill total taken undo deeds "
+                         "trial tried"),
+        }
+        for kept, (module, names) in methods.items():
+            for name in names.split():
+                self.assertTrue(inspect.isfunction(vars(kept)[name]), name)
+            self.assertEqual(kept.__module__, module.__name__)
         self.assertIsInstance(vars(Scale)["columns"], property)
-        self.assertEqual(Scale.__module__, scales.__name__)
 
     def test_functions_stand_in_their_file(self):
         names = {
@@ -146,6 +206,8 @@ class NamesTest(unittest.TestCase):
             fairness: "unfair_year fair_pairs is_fair_pairs unfair_sum worse order_ring ranks",
             orders: "cheapest_order dearest_order places_cost never_dearer best_spread alike_behind",
             reporting: "report report_paper worth worth_ever surely_worth never_worth",
+            changing: "cheapest cheapest_paper is_cheapest_paper gain no_change_gains gain_potentials "
+                      "is_gain_potentials",
         }
         for module, told in names.items():
             for name in told.split():
@@ -194,6 +256,33 @@ class NamesTest(unittest.TestCase):
             worth_ever: ["scale", "at", "claims"],
             surely_worth: ["scale", "at", "claims", "saved"],
             never_worth: ["scale", "at", "claims", "saved", "years"],
+            Houses: ["scales", "ways"],
+            Houses.scale_of: ["self", "house"],
+            Houses.choices: ["self", "place"],
+            Houses.cost: ["self", "place", "row", "plan"],
+            cheapest: ["houses", "place", "row"],
+            cheapest_paper: ["houses", "place", "row"],
+            is_cheapest_paper: ["houses", "place", "row", "cost", "amounts"],
+            gain: ["houses", "place"],
+            no_change_gains: ["houses", "place"],
+            gain_potentials: ["houses", "place"],
+            is_gain_potentials: ["houses", "place", "amounts"],
+            Seen: ["scale", "many"],
+            Seen.only: ["self", "year", "classes"],
+            Seen.paid: ["self", "year", "amount"],
+            Policy: ["houses", "place"],
+            Policy.change: ["self", "year", "house"],
+            Policy.total: ["self", "years"],
+            Policy.back_worth: ["self", "year", "years"],
+            Desk: ["houses"],
+            Desk.take_in: ["self", "name", "place"],
+            Desk.drop: ["self", "name"],
+            Desk.policy: ["self", "name"],
+            Desk.news: ["self", "rows"],
+            Desk.move: ["self", "name", "year", "house"],
+            Desk.bill: ["self", "year"],
+            Desk.total: ["self", "years"],
+            Desk.taken: ["self", "years"],
         }
         for function in (pairs.pairs, excess, never_more, potentials, greatest_mean, least_mean, mean_potentials,
                          offset):
@@ -211,6 +300,15 @@ class NamesTest(unittest.TestCase):
         for function in (forgotten, kept_apart):
             arguments[function] = ["scale", "claims"]
             self.assertEqual(function.__defaults__, (0,))
+        for method in (Seen.possible, Seen.columns_in, Policy.stay, Policy.place_in, Policy.cost, Policy.bill,
+                       Policy.correction):
+            arguments[method] = ["self", "year"]
+        for kept in (Seen, Policy, Desk):
+            arguments[kept.tried] = ["self", "deed"]
+            arguments[kept.trial] = ["self"]
+        for method in (Seen.stories, Seen.fewest, Seen.most, Seen.clash, Seen.best_year, Policy.bills_sent, Policy.owed,
+                       Policy.twin, Desk.names, Desk.undo, Desk.deeds):
+            arguments[method] = ["self"]
         for thing, names in arguments.items():
             self.assertEqual(list(inspect.signature(thing).parameters), names, thing)
 
