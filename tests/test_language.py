@@ -179,6 +179,36 @@ class ExpressionsTest(unittest.TestCase):
                     fitting = True
                 self.assertTrue(fitting, f"{stem}, line {node.lineno}")
 
+    def test_what_is_turned_round(self):
+        # Classes have items, so only what is plainly a list or a range is turned round.
+        for stem, node in nodes(ast.Call):
+            if called(node) == "reversed":
+                self.assertIn(called(node.args[0]), ("list", "tuple", "sorted", "range"), f"{stem}, line {node.lineno}")
+
+    def test_classes_with_items_are_not_gone_through(self):
+        for stem, node in nodes(ast.ClassDef):
+            methods = {item.name: item for item in node.body if isinstance(item, ast.FunctionDef)}
+            if "__getitem__" in methods:
+                self.assertIsInstance(methods["__iter__"].body[-1], ast.Raise, f"{stem}.{node.name}")
+
+    def test_ends_of_blocks_only_give_back(self):
+        for stem, node in nodes(ast.FunctionDef):
+            if node.name == "__exit__":
+                for row in node.body:
+                    self.assertIsInstance(row, ast.Assign, f"{stem}, line {row.lineno}")
+                    self.assertIsInstance(row.targets[0], ast.Attribute, f"{stem}, line {row.lineno}")
+                    self.assertIsInstance(row.value, ast.Attribute, f"{stem}, line {row.lineno}")
+
+    def test_no_loop_changes_what_it_goes_through(self):
+        changing = ("append", "clear", "extend", "insert", "pop", "remove", "reverse", "setdefault", "update")
+        for stem, loop in nodes(ast.For):
+            gone = ast.unparse(loop.iter)
+            for node in [inner for row in loop.body for inner in ast.walk(row)]:
+                if isinstance(node, ast.Call) and isinstance(node.func, ast.Attribute) and node.func.attr in changing:
+                    self.assertNotEqual(ast.unparse(node.func.value), gone, f"{stem}, line {node.lineno}")
+                elif isinstance(node, ast.Subscript) and not isinstance(node.ctx, ast.Load):
+                    self.assertNotEqual(ast.unparse(node.value), gone, f"{stem}, line {node.lineno}")
+
     def test_errors_are_created_where_they_are_raised(self):
         for stem, node in nodes(ast.Raise):
             self.assertTrue(node.exc is None or isinstance(node.exc, ast.Call), f"{stem}, line {node.lineno}")
