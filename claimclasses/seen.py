@@ -5,74 +5,122 @@ from claimclasses.checks import check_class, check_years
 MOST_SEEN = 60
 
 
-def column_sums(scale, at, rest, sign):
-    """For each column by which a story goes on from this class, the sum from there on, and the column."""
-    return [(sign * column + rest[scale(at, column)], column) for column in range(scale.columns)
-            if scale(at, column) in rest]
+def origins_of(moves):
+    """For each class the classes that lead to it, each one once for each column by which it does."""
+    return [[by for by, leads in enumerate(moves) for to in leads if to == at] for at in range(len(moves))]
 
 
-def least_sums(scale, left, sign):
-    """For each year the least sums of the columns from there on, by the classes from which a story goes on."""
+def sum_at(counts, classes):
+    """The sum of the counts of these classes, of each one as often as it stands there."""
+    total = 0
+    for at in classes:
+        total += counts[at]
+    return total
+
+
+def walk_counts(beside, left):
+    """For each year and class the number of ways that come to it, if the years are gone through in this order.
+
+    A way begins in a class of the first year, and comes to a class from those in the list that `beside` has for it.
+    """
+    counts = [[1 if at in left[0] else 0 for at in range(len(beside))]]
+    for classes in left[1:]:
+        told = [0 for at in beside]
+        for at in classes:
+            told[at] = sum_at(counts[-1], beside[at])
+        counts.append(told)
+    return counts
+
+
+def signed_steps(leads, sign):
+    """For each column what it counts with this sign, and the class to which it leads."""
+    return [(sign * column, to) for column, to in enumerate(leads)]
+
+
+def least_sum(steps, rest):
+    """The least sum of a step and what goes on behind it, or None if nothing does."""
+    least = None
+    for amount, to in steps:
+        if to in rest:
+            total = amount + rest[to]
+            if least is None or total < least:
+                least = total
+    return least
+
+
+def least_sums(steps, left):
+    """For each year the least sums of the steps from there on, by the classes from which a story goes on."""
     sums = [{at: 0 for at in left[-1]}]
     for classes in reversed(list(left[:-1])):
-        told = {at: column_sums(scale, at, sums[-1], sign) for at in classes}
-        sums.append({at: min(told[at])[0] for at in told if told[at]})
+        told = {at: least_sum(steps[at], sums[-1]) for at in classes}
+        sums.append({at: told[at] for at in told if told[at] is not None})
     return sums[::-1]
 
 
-def least_story(scale, left, sign):
+def least_story(moves, left, sign):
     """A story that fits with the least sum of its columns, if they count with this sign, or None."""
-    sums = least_sums(scale, left, sign)
+    steps = [signed_steps(leads, sign) for leads in moves]
+    sums = least_sums(steps, left)
     if not sums[0]:
         return None
     start = min([(sums[0][at], at) for at in sums[0]])[1]
     row = []
     at = start
     for rest in sums[1:]:
-        row.append(min(column_sums(scale, at, rest, sign))[1])
-        at = scale(at, row[-1])
+        totals = [(amount + rest[to], column) for column, (amount, to) in enumerate(steps[at]) if to in rest]
+        row.append(min(totals)[1])
+        at = moves[at][row[-1]]
     return start, row
 
 
-def counts_before(scale, left):
-    """For each year the numbers of stories of the years before it, by the classes to which they come."""
-    counts = [{at: 1 for at in left[0]}]
-    for classes in left[1:]:
-        told = {}
-        for at, count in counts[-1].items():
-            for column in range(scale.columns):
-                to = scale(at, column)
-                if to in classes:
-                    told[to] = told.get(to, 0) + count
-        counts.append(told)
-    return counts
+def shortest_clashes(origins, left):
+    """The shortest clash that ends in each year that has one, as the number of years behind its first one, and that."""
+    found = []
+    earliest = {}
+    for year, classes in enumerate(left):
+        # What fits from some year on fits from each later one on, too: so the earliest one tells of all.
+        earliest = {at: min([earliest[by] for by in origins[at] if by in earliest], default=year) for at in classes}
+        first = min(list(earliest.values()), default=year + 1) - 1
+        if first >= 0:
+            found.append((year - first, first))
+    return found
 
 
-def counts_behind(scale, left):
-    """For each year the numbers of ways in which a story goes on from there, by the classes from which it does."""
-    counts = [{at: 1 for at in left[-1]}]
-    for classes in reversed(list(left[:-1])):
-        rest = counts[-1]
-        told = {at: sum([rest.get(scale(at, column), 0) for column in range(scale.columns)]) for at in classes}
-        counts.append({at: told[at] for at in told if told[at] > 0})
-    return counts[::-1]
+class Knowledge:
+    """The classes that are left for each year, and the stories that fit, counted when they are first asked for.
 
+    It is not changed by what is taken in later, which makes another one: so what was counted need not be counted again
+    as long as nothing is taken in, nor behind a trial.
+    """
 
-def counts_with(scale, left):
-    """For each year the numbers of stories that fit, by the classes of this year."""
-    told = list(zip(counts_before(scale, left), counts_behind(scale, left)))
-    return [{at: before[at] * behind[at] for at in before if at in behind} for before, behind in told]
+    def __init__(self, moves, origins, left):
+        self.moves = moves
+        self.origins = origins
+        self.left = left
+        self.before = None
+        self.behind = None
 
+    def narrowed(self, year, fitting):
+        """What is known if just these classes fit in a year, too."""
+        left = list(self.left)
+        left[year] = [at for at in left[year] if at in fitting]
+        return Knowledge(self.moves, self.origins, left)
 
-def clashing_year(scale, left, first):
-    """The first year such that no story fits what is known from `first` to it, or None."""
-    held = left[first]
-    last = first
-    while held and last < len(left) - 1:
-        last += 1
-        led = {scale(at, column): True for at in held for column in range(scale.columns)}
-        held = [at for at in left[last] if at in led]
-    return None if held else last
+    def counts_before(self):
+        """For each year and class the number of stories of the years before it that come to this class."""
+        if self.before is None:
+            self.before = walk_counts(self.origins, self.left)
+        return self.before
+
+    def counts_behind(self):
+        """For each year and class the number of stories of the years from there on that begin in this class."""
+        if self.behind is None:
+            self.behind = walk_counts(self.moves, self.left[::-1])[::-1]
+        return self.behind
+
+    def counts_in(self, year):
+        """For each class the number of stories that fit and have it in this year."""
+        return [came * rest for came, rest in zip(self.counts_before()[year], self.counts_behind()[year])]
 
 
 class SeenTrial:
@@ -80,14 +128,14 @@ class SeenTrial:
 
     def __init__(self, seen):
         self.seen = seen
-        self.kept = []
+        self.kept = None
 
     def __enter__(self):
-        self.kept = list(self.seen.left)
+        self.kept = self.seen.known
         return self.seen
 
     def __exit__(self, kind, value, trace):
-        self.seen.left = self.kept
+        self.seen.known = self.kept
 
 
 class Seen:
@@ -96,12 +144,14 @@ class Seen:
     def __init__(self, scale, many):
         check_years(many, 0, MOST_SEEN)
         self.scale = scale
-        # For each year the classes that are left by what was taken in on this year.
-        self.left = [list(range(len(scale))) for year in range(many + 1)]
+        self.last = many
+        moves = scale.table()
+        left = [list(range(len(scale))) for year in range(many + 1)]
+        self.known = Knowledge(moves, origins_of(moves), left)
 
     def __getitem__(self, year):
-        check_years(year, 0, len(self.left) - 1)
-        return list(self.left[year])
+        check_years(year, 0, self.last)
+        return list(self.known.left[year])
 
     def __setitem__(self, year, at):
         self.only(year, [at])
@@ -111,48 +161,44 @@ class Seen:
 
     def only(self, year, classes):
         """Takes in that the class of a year is one of these."""
-        check_years(year, 0, len(self.left) - 1)
+        check_years(year, 0, self.last)
         for at in classes:
             check_class(self.scale, at)
-        self.left[year] = [at for at in self.left[year] if at in classes]
+        self.known = self.known.narrowed(year, classes)
 
     def paid(self, year, amount):
         """Takes in that the premium of a year is this one."""
-        check_years(year, 0, len(self.left) - 1)
-        self.left[year] = [at for at in self.left[year] if self.scale.premium(at) == amount]
+        check_years(year, 0, self.last)
+        fitting = [at for at, premium in enumerate(self.scale.premiums()) if premium == amount]
+        self.known = self.known.narrowed(year, fitting)
 
     def possible(self, year):
         """The classes that the year has in some story that fits."""
-        check_years(year, 0, len(self.left) - 1)
-        return sorted(counts_with(self.scale, self.left)[year])
+        check_years(year, 0, self.last)
+        return [at for at, count in enumerate(self.known.counts_in(year)) if count > 0]
 
     def stories(self):
         """The number of stories that fit."""
-        return sum(list(counts_behind(self.scale, self.left)[0].values()))
+        return sum(self.known.counts_behind()[0])
 
     def fewest(self):
         """A story that fits whose columns have the least sum, or None."""
-        return least_story(self.scale, self.left, 1)
+        return least_story(self.known.moves, self.known.left, 1)
 
     def most(self):
         """A story that fits whose columns have the greatest sum, or None."""
-        return least_story(self.scale, self.left, -1)
+        return least_story(self.known.moves, self.known.left, -1)
 
     def columns_in(self, year):
         """The columns that the year has in some story that fits."""
-        check_years(year, 0, len(self.left) - 2)
-        before = counts_before(self.scale, self.left)[year]
-        behind = counts_behind(self.scale, self.left)[year + 1]
-        columns = list(range(self.scale.columns))
-        return [column for column in columns if any([self.scale(at, column) in behind for at in before])]
+        check_years(year, 0, self.last - 1)
+        behind = self.known.counts_behind()[year + 1]
+        led = [leads for leads, count in zip(self.known.moves, self.known.counts_before()[year]) if count > 0]
+        return [column for column in range(self.scale.columns) if any([behind[leads[column]] > 0 for leads in led])]
 
     def clash(self):
         """The first and last one of as few years as possible whose knowledge alone fits no story, or None."""
-        found = []
-        for first in range(len(self.left)):
-            last = clashing_year(self.scale, self.left, first)
-            if last is not None:
-                found.append((last - first, first))
+        found = shortest_clashes(self.known.origins, self.known.left)
         if len(found) == 0:
             return None
         years, first = min(found)
@@ -160,11 +206,10 @@ class Seen:
 
     def best_year(self):
         """The year whose class leaves the fewest stories at worst, with this number, or None if no story fits."""
-        told = counts_with(self.scale, self.left)
+        worst = [max(self.known.counts_in(year)) for year in range(self.last + 1)]
         # If a story fits, each year has a class in it, and otherwise none has one.
-        if not told[0]:
+        if worst[0] == 0:
             return None
-        worst = [max(list(counts.values())) for counts in told]
         return worst.index(min(worst)), min(worst)
 
     def trial(self):

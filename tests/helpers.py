@@ -386,6 +386,22 @@ def own_told(own, many):
             [owed for _, _, owed in own.bills], own.owed())
 
 
+def story_classes(scale, story):
+    """The classes of a story, year by year."""
+    start, row = story
+    told = [start]
+    for claims in row:
+        told.append(led(scale, told[-1], claims))
+    return told
+
+
+def seen_told(seen, many):
+    """All that is told, to see whether something is known that was not known before, or is not known any more."""
+    years = range(many + 1)
+    return (seen.stories(), seen.fewest(), seen.most(), seen.clash(), seen.best_year(), [seen[year] for year in years],
+            [seen.possible(year) for year in years], [seen.columns_in(year) for year in range(many)])
+
+
 class RefusedClasses:
     """Tests of functions of two scales and a class of each; `calls` has the functions and their further arguments."""
 
